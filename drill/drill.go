@@ -3,6 +3,7 @@ package drill
 
 import (
 	"drill/api"
+	"drill/order"
 	"drill/records"
 )
 
@@ -16,10 +17,10 @@ func Frame(e api.Example) (string, api.Errno) { return records.Frame(e) }
 func Scan(shard string) ([]api.Record, []api.Gap, api.Errno) { return records.Scan(shard) }
 
 // Place gives the place of a number in an order (P5).
-func Place(seed uint64, n uint32, i uint32) (uint32, api.Errno) { return 0, api.OK }
+func Place(seed uint64, n uint32, i uint32) (uint32, api.Errno) { return order.Place(seed, n, i) }
 
 // Back gives the number that has a place in an order (P6).
-func Back(seed uint64, n uint32, i uint32) (uint32, api.Errno) { return 0, api.OK }
+func Back(seed uint64, n uint32, i uint32) (uint32, api.Errno) { return order.Back(seed, n, i) }
 
 // New begins a run (P7).
 func New(c api.Config, shard string) (*Run, api.Errno) { return nil, api.OK }
