@@ -159,13 +159,13 @@ func within(x *big.Int, most int64) *big.Int {
 }
 
 // cutRows gives how many rows of each worker missed: a row's worker is the one
-// whose part, counted in rows times workers, it falls into.
+// in whose part it ends, all counted in rows times workers, so without rounding.
 func cutRows(missed []bool, workers int) []int {
 	count := make([]int, workers)
 	for row, miss := range missed {
 		for k := range workers {
-			from, to := k*len(missed)/workers, (k+1)*len(missed)/workers
-			if miss && row >= from && row < to {
+			end := (row + 1) * workers
+			if miss && k*len(missed) < end && end <= (k+1)*len(missed) {
 				count[k]++
 			}
 		}
