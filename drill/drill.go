@@ -6,11 +6,13 @@ import (
 	"drill/learn"
 	"drill/order"
 	"drill/records"
+	"drill/saves"
 )
 
 // Run is a learner on its way.
 type Run struct {
 	config   api.Config
+	mark     string
 	examples []api.Example
 	steps    int
 	learner  learn.Learner
@@ -40,7 +42,9 @@ func New(c api.Config, shard string) (*Run, api.Errno) {
 	if len(found) == 0 {
 		return nil, api.ErrEmpty
 	}
-	return &Run{config: c, examples: examplesOf(found)}, api.OK
+	mark := saves.Mark(c, shard)
+	examples := examplesOf(found)
+	return &Run{config: c, mark: mark, examples: examples}, api.OK
 }
 
 // Draw gives the record of a draw (P8).
@@ -100,7 +104,24 @@ func (r *Run) Guess(text string) (int, int64, api.Errno) {
 }
 
 // Save gives the run as bytes (P13).
-func (r *Run) Save() string { return "" }
+func (r *Run) Save() string {
+	return saves.Write(saves.State{Mark: r.mark, Steps: r.steps, Learner: r.learner})
+}
 
 // Load gives the run that was saved (P14).
-func Load(c api.Config, shard string, save string) (*Run, api.Errno) { return nil, api.OK }
+func Load(c api.Config, shard string, save string) (*Run, api.Errno) {
+	run, err := New(c, shard)
+	if err != api.OK {
+		return nil, err
+	}
+	state, ok := saves.Read(save)
+	if !ok {
+		return nil, api.ErrSave
+	}
+	if state.Mark != run.mark {
+		return nil, api.ErrOther
+	}
+	run.steps = state.Steps
+	run.learner = state.Learner
+	return run, api.OK
+}

@@ -1,6 +1,8 @@
 package drill_test
 
 import (
+	"encoding/binary"
+	"hash/crc32"
 	"hash/fnv"
 	"math/big"
 	"slices"
@@ -16,6 +18,7 @@ import (
 // library's hash, and numbers of any size are divided where the program shifts.
 type plainRun struct {
 	config   api.Config
+	mark     string
 	examples []api.Example
 	steps    int
 	weights  [4][32]*big.Int
@@ -24,7 +27,7 @@ type plainRun struct {
 }
 
 func newPlainRun(c api.Config, shard string) *plainRun {
-	p := &plainRun{config: c, orders: map[int][]uint32{}}
+	p := &plainRun{config: c, mark: plainMark(c, shard), orders: map[int][]uint32{}}
 	found, _ := plainScan(shard)
 	for _, r := range found {
 		p.examples = append(p.examples, r.Example)
@@ -186,6 +189,70 @@ func (p *plainRun) status() api.Status {
 	return api.Status{Step: p.steps, Epoch: next / len(p.examples), Row: next % len(p.examples)}
 }
 
+// summed puts the sum behind bytes.
+func summed(s string) string {
+	return s + string(binary.LittleEndian.AppendUint32(nil, crc32.ChecksumIEEE([]byte(s))))
+}
+
+func plainMark(c api.Config, shard string) string {
+	b := binary.LittleEndian.AppendUint64(nil, c.Seed)
+	b = append(b, c.Batch)
+	b = binary.LittleEndian.AppendUint32(b, uint32(c.Rate))
+	b = binary.LittleEndian.AppendUint32(b, uint32(c.Momentum))
+	b = append(b, c.Decay)
+	return summed(string(b) + shard)[len(b)+len(shard):]
+}
+
+// save writes with the library, whose varints of numbers below 0 are those of P13.
+func (p *plainRun) save() string {
+	b := binary.AppendUvarint([]byte("DRL1"+p.mark), uint64(p.steps))
+	for _, table := range [][4][32]*big.Int{p.weights, p.speeds} {
+		for _, row := range table {
+			for _, x := range row {
+				b = binary.AppendVarint(b, x.Int64())
+			}
+		}
+	}
+	return summed(string(b))
+}
+
+// plainLoad reads with the library, which takes varints that are too long as
+// well: such a save is told by its not being written so again. It is asked when
+// New has nothing to refuse.
+func plainLoad(c api.Config, shard string, save string) (*plainRun, api.Errno) {
+	p := newPlainRun(c, shard)
+	if len(save) < 8 {
+		return nil, api.ErrSave
+	}
+	p.mark = save[4:8]
+	rest := []byte(save[8:])
+	steps, size := binary.Uvarint(rest)
+	if size <= 0 || steps > 400 {
+		return nil, api.ErrSave
+	}
+	p.steps = int(steps)
+	rest = rest[size:]
+	for i := range 256 {
+		x, size := binary.Varint(rest)
+		at, most := &p.weights[i/32%4][i%32], int64(1<<24)
+		if i >= 128 {
+			at, most = &p.speeds[i/32%4][i%32], 1<<30
+		}
+		if size <= 0 || x < -most || x > most {
+			return nil, api.ErrSave
+		}
+		*at = big.NewInt(x)
+		rest = rest[size:]
+	}
+	if p.save() != save {
+		return nil, api.ErrSave
+	}
+	if p.mark != plainMark(c, shard) {
+		return nil, api.ErrOther
+	}
+	return p, api.OK
+}
+
 // checkRun compares all that a run answers with the plain one, at the texts.
 func checkRun(t *testing.T, r *drill.Run, p *plainRun, texts ...string) {
 	t.Helper()
@@ -196,6 +263,9 @@ func checkRun(t *testing.T, r *drill.Run, p *plainRun, texts ...string) {
 		if l, err := r.Weights(class); !slices.Equal(l, p.weightsOf(class)) || err != api.OK {
 			t.Fatalf("P11, P12: %+v, step %d: Weights(%d) = %v, %d, want %v", p.config, p.steps, class, l, err, p.weightsOf(class))
 		}
+	}
+	if save := r.Save(); save != p.save() {
+		t.Fatalf("P13: %+v, step %d: Save = %x, want %x", p.config, p.steps, save, p.save())
 	}
 	for _, text := range texts {
 		class, score := p.best(text, -1)

@@ -5,8 +5,9 @@ package learn
 import "drill/api"
 
 const (
-	// speedCap is in the parts of a weight that speeds are counted in.
-	speedCap = api.Cap * 64
+	// SpeedCap is the most that a speed can be, up or down. Speeds are counted
+	// in 64ths of a weight.
+	SpeedCap = api.Cap * 64
 
 	noClass = -1
 )
@@ -65,7 +66,7 @@ func (l *Learner) Move(pull Pull, c api.Config) {
 
 func nextSpeed(speed int64, pull int64, c api.Config) int64 {
 	kept := (speed * int64(c.Momentum)) >> 16
-	return cut(kept+pull*int64(c.Rate), speedCap)
+	return cut(kept+pull*int64(c.Rate), SpeedCap)
 }
 
 func nextWeight(weight int32, speed int64, c api.Config) int32 {

@@ -1,4 +1,4 @@
-// Package wire: numbers and sums as the bytes that frames hold.
+// Package wire: numbers and sums as the bytes that frames and saves hold.
 package wire
 
 const (
